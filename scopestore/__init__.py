@@ -1,0 +1,1 @@
+"""Scopestore: rows over unknowns, told and taken back."""

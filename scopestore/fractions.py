@@ -1,0 +1,52 @@
+"""Fractions: tuples (top, bottom) in lowest terms, the bottom from 1 on."""
+
+from scopestore.errors import NoFraction
+
+NOUGHT = (0, 1)
+
+
+def common_divisor(a, b):
+    """Tell the greatest whole number that divides both, of which not both are 0."""
+    a, b = abs(a), abs(b)
+    while b > 0:
+        a, b = b, a % b
+    return a
+
+
+def fraction_of(top, bottom=1):
+    """Tell the fraction that is top divided by bottom."""
+    if bottom == 0:
+        raise NoFraction("a fraction has no bottom of 0")
+    divisor = common_divisor(top, bottom)
+    # The bottom is told above 0, so its sign goes out with the divisor.
+    if bottom < 0:
+        divisor = -divisor
+    return (top // divisor, bottom // divisor)
+
+
+def plus(a, b):
+    """Tell the sum of two fractions."""
+    return fraction_of(a[0] * b[1] + b[0] * a[1], a[1] * b[1])
+
+
+def minus(a, b):
+    """Tell the first fraction less the second."""
+    return fraction_of(a[0] * b[1] - b[0] * a[1], a[1] * b[1])
+
+
+def times(a, b):
+    """Tell the product of two fractions."""
+    return fraction_of(a[0] * b[0], a[1] * b[1])
+
+
+def over(a, b):
+    """Tell the first fraction divided by the second."""
+    if b[0] == 0:
+        raise NoFraction("nothing is divided by nought")
+    return fraction_of(a[0] * b[1], a[1] * b[0])
+
+
+def is_less(a, b):
+    """Tell whether the first fraction is less than the second."""
+    # Bottoms are above 0, so multiplying by both keeps the order.
+    return a[0] * b[1] < b[0] * a[1]

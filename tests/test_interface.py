@@ -1,0 +1,60 @@
+"""The interface: each name stands in its file, is defined there and takes what is listed."""
+
+import importlib
+import inspect
+import unittest
+
+FUNCTIONS = {
+    "scopestore.fractions": {
+        "fraction_of": ["top", "bottom"],
+        "plus": ["a", "b"],
+        "minus": ["a", "b"],
+        "times": ["a", "b"],
+        "over": ["a", "b"],
+        "is_less": ["a", "b"],
+    },
+    "scopestore.sums": {
+        "sum_of": ["pairs"],
+        "sum_plus": ["one", "other"],
+        "sum_times": ["one", "number"],
+        "worth_at": ["one", "point"],
+    },
+}
+CLASSES = {
+    "scopestore.errors": (
+        "StoreError", "NoFraction", "NoRow", "NoName", "Stands", "Full", "NoLevel", "NoMark", "NothingDone",
+        "NoPoint", "NoStep", "NoNumber", "NoNames", "NoText", "NoLine", "NoWord",
+    ),
+}
+
+
+class Interface(unittest.TestCase):
+    def test_functions(self):
+        for module_name, functions in FUNCTIONS.items():
+            module = importlib.import_module(module_name)
+            for name, arguments in functions.items():
+                with self.subTest(module=module_name, name=name):
+                    function = getattr(module, name)
+                    self.assertTrue(inspect.isfunction(function))
+                    self.assertEqual(function.__module__, module_name)
+                    self.assertEqual(list(inspect.signature(function).parameters), arguments)
+
+    def test_the_one_default(self):
+        for module_name, functions in FUNCTIONS.items():
+            module = importlib.import_module(module_name)
+            for name in functions:
+                parameters = inspect.signature(getattr(module, name)).parameters.values()
+                defaults = {one.name: one.default for one in parameters if one.default is not one.empty}
+                self.assertEqual(defaults, {"bottom": 1} if name == "fraction_of" else {})
+
+    def test_classes(self):
+        for module_name, names in CLASSES.items():
+            module = importlib.import_module(module_name)
+            for name in names:
+                with self.subTest(module=module_name, name=name):
+                    self.assertTrue(inspect.isclass(getattr(module, name)))
+                    self.assertEqual(getattr(module, name).__module__, module_name)
+
+
+if __name__ == "__main__":
+    unittest.main()
