@@ -3,6 +3,8 @@
 from scopestore.errors import NoFraction
 
 NOUGHT = (0, 1)
+ONE = (1, 1)
+MINUS_ONE = (-1, 1)
 
 
 def common_divisor(a, b):
@@ -50,3 +52,19 @@ def is_less(a, b):
     """Tell whether the first fraction is less than the second."""
     # Bottoms are above 0, so multiplying by both keeps the order.
     return a[0] * b[1] < b[0] * a[1]
+
+
+def fits_whole(thing):
+    """Tell whether anything is a whole number."""
+    # Python counts True and False among the integers, the document does not.
+    return isinstance(thing, int) and not isinstance(thing, bool)
+
+
+def fits_fraction(thing):
+    """Tell whether anything is a fraction."""
+    if not isinstance(thing, tuple) or len(thing) != 2:
+        return False
+    top, bottom = thing
+    if not fits_whole(top) or not fits_whole(bottom):
+        return False
+    return bottom >= 1 and common_divisor(top, bottom) == 1

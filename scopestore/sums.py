@@ -1,6 +1,9 @@
 """Sums: dicts from unknowns to fractions, none of them nought; and their worth at a point."""
 
-from scopestore.fractions import NOUGHT, plus, times
+from scopestore.fractions import NOUGHT, fits_fraction, plus, times
+
+LETTERS = "abcdefghijklmnopqrstuvwxyz"
+LONGEST = 6
 
 
 def without_noughts(numbers):
@@ -33,3 +36,17 @@ def worth_at(one, point):
     for unknown, number in one.items():
         worth = plus(worth, times(number, point.get(unknown, NOUGHT)))
     return worth
+
+
+def fits_unknown(thing):
+    """Tell whether anything is a text of one to six small letters, as unknowns are."""
+    if not isinstance(thing, str) or not 1 <= len(thing) <= LONGEST:
+        return False
+    return all(letter in LETTERS for letter in thing)
+
+
+def fits_sum(thing):
+    """Tell whether anything is a sum."""
+    if not isinstance(thing, dict):
+        return False
+    return all(fits_unknown(key) and fits_fraction(thing[key]) and thing[key] != NOUGHT for key in thing)

@@ -3,14 +3,34 @@
 import copy
 import unittest
 
+from scopestore.equals import solved_of, stepped, steps_of
+from scopestore.errors import StoreError
 from scopestore.fractions import fraction_of, is_less, minus, over, plus, times
+from scopestore.rows import keeps, row_of
 from scopestore.sums import sum_of, sum_plus, sum_times, worth_at
+from scopestore.verdicts import points_by_row, verdict_of
 
 SUM = {"x": (3, 4), "y": (-2, 3)}
 PAIRS = [("x", (1, 2)), ("y", (0, 1)), ("x", (1, 3)), ("z", (5, 1)), ("z", (-5, 1))]
 
+# The same dict stands in several rows: what is told of them may not have it in common either.
+KEPT = [
+    ("d", (SUM, "is", (1, 1))), ("b", (SUM, "most", (2, 1))), ("c", ({}, "is", (0, 1))), ("a", (SUM, "is", (1, 1))),
+    ("e", ({"z": (1, 1), "y": (2, 1)}, "is", (1, 1))), ("f", ({"x": (1, 1)}, "above", (0, 1))),
+]
+CLASH = [
+    ("d", (SUM, "is", (1, 1))), ("b", (SUM, "above", (2, 1))), ("c", ({}, "is", (0, 1))), ("a", (SUM, "is", (2, 1))),
+]
+STEPS = [("times", "d", (2, 1)), ("add", "a", "d", (0, 1)), ("add", "d", "a", (-1, 3))]
+ROW_CALLS = tuple(
+    (call, (kind(rows),))
+    for call in (solved_of, steps_of, verdict_of, points_by_row)
+    for rows in ([], KEPT, CLASH, CLASH[:2], KEPT[4:])
+    for kind in (list, tuple)
+)
+
 # Each call, with what is handed in: a told dict is often alike a handed one here.
-DICT_CALLS = (
+MADE_CALLS = (
     (sum_of, (PAIRS,)),
     (sum_of, (tuple(PAIRS),)),
     (sum_of, ([],)),
@@ -24,7 +44,14 @@ DICT_CALLS = (
     (sum_times, (SUM, (-4, 3))),
     (sum_times, (SUM, (0, 1))),
     (sum_times, ({}, (1, 1))),
-)
+    (row_of, (SUM, "is", (1, 1))),
+    (row_of, ({}, "most", (0, 1))),
+    (stepped, (KEPT, STEPS)),
+    (stepped, (tuple(CLASH), tuple(STEPS))),
+    (stepped, (KEPT, [])),
+    (stepped, (KEPT, [("add", "c", "d", (1, 1))])),
+    (stepped, ([], ())),
+) + ROW_CALLS
 OTHER_CALLS = (
     (fraction_of, (6, -8)),
     (plus, ((1, 2), (1, 3))),
@@ -35,6 +62,16 @@ OTHER_CALLS = (
     (worth_at, (SUM, {"x": (1, 3), "u": (0, 1)})),
     (worth_at, (SUM, {})),
     (worth_at, ({}, {"x": (1, 3)})),
+    (keeps, ((SUM, "most", (1, 1)), {"x": (1, 3), "u": (0, 1)})),
+    (keeps, (({}, "above", (0, 1)), {})),
+)
+REFUSED_CALLS = (
+    (row_of, ({"x": (1, 1), "y": [1, 1]}, ["is"], [1, 1])),
+    (row_of, ({"x": (1, 1)}, {"is": 1}, (0, 1))),
+    (row_of, ([("x", (1, 1))], "is", (0, 1))),
+    (stepped, (KEPT, STEPS + [["times", "d", (1, 1)]])),
+    (stepped, (KEPT, STEPS + [("times", ["d"], [1, 1])])),
+    (stepped, (KEPT, STEPS + [("times", "b", (1, 1))])),
 )
 
 
@@ -43,53 +80,97 @@ def ordered(thing):
     return repr(thing)
 
 
+def fresh(thing):
+    """Tell a thing made anew, such that no list or dict stands in it at two places."""
+    if isinstance(thing, dict):
+        return {key: fresh(thing[key]) for key in thing}
+    if isinstance(thing, (list, tuple)):
+        return type(thing)(fresh(part) for part in thing)
+    return thing
+
+
+def places(thing):
+    """Tell each list and dict within a thing, from the outside in."""
+    told = [thing] if isinstance(thing, (list, dict)) else []
+    if isinstance(thing, (list, tuple, dict)):
+        for part in thing.values() if isinstance(thing, dict) else thing:
+            told += places(part)
+    return told
+
+
 def spoil(thing):
     """Change a list or a dict beyond recognition."""
+    thing.clear()
     if isinstance(thing, dict):
-        thing.clear()
         thing["spoilt"] = (99, 1)
-    if isinstance(thing, list):
-        thing.clear()
+    else:
         thing.append(("spoilt", (99, 1)))
 
 
 class Handed(unittest.TestCase):
+    def at_each(self, calls, look):
+        for call, handed in calls:
+            with self.subTest(call=call.__name__, handed=handed):
+                look(call, handed)
+
     def test_what_is_handed_in_is_unchanged(self):
-        for call, handed in DICT_CALLS + OTHER_CALLS:
-            with self.subTest(call=call.__name__, handed=handed):
-                own = copy.deepcopy(handed)
-                call(*own)
-                self.assertEqual(ordered(own), ordered(handed))
+        self.at_each(MADE_CALLS + OTHER_CALLS, self.look_that_handed_is_unchanged)
 
-    def test_a_told_dict_is_the_askers_own(self):
-        for call, handed in DICT_CALLS:
-            with self.subTest(call=call.__name__, handed=handed):
-                own = copy.deepcopy(handed)
-                told = call(*own)
-                as_told = copy.deepcopy(told)
-                spoil(told)
-                self.assertEqual(ordered(own), ordered(handed))
-                self.assertEqual(call(*own), as_told)
-                self.assertEqual(call(*copy.deepcopy(handed)), as_told)
+    def look_that_handed_is_unchanged(self, call, handed):
+        own = copy.deepcopy(handed)
+        call(*own)
+        self.assertEqual(ordered(own), ordered(handed))
 
-    def test_two_told_dicts_are_two(self):
-        for call, handed in DICT_CALLS:
-            with self.subTest(call=call.__name__, handed=handed):
-                first, second = call(*handed), call(*handed)
-                as_told = copy.deepcopy(second)
-                spoil(first)
-                self.assertEqual(second, as_told)
+    def test_what_is_refused_is_unchanged(self):
+        self.at_each(REFUSED_CALLS, self.look_that_refused_is_unchanged)
+
+    def look_that_refused_is_unchanged(self, call, handed):
+        own = copy.deepcopy(handed)
+        self.assertRaises(StoreError, call, *own)
+        self.assertEqual(ordered(own), ordered(handed))
+
+    def test_what_is_told_stands_nowhere_else(self):
+        self.at_each(MADE_CALLS, self.look_that_told_stands_nowhere_else)
+
+    def look_that_told_stands_nowhere_else(self, call, handed):
+        own = copy.deepcopy(handed)
+        first, second = call(*own), call(*own)
+        told = places(first) + places(second)
+        self.assertTrue(told)
+        self.assertEqual(len({id(place) for place in told}), len(told))
+        self.assertFalse({id(place) for place in told} & {id(place) for place in places(own)})
+
+    def test_what_is_told_is_the_askers_own(self):
+        self.at_each(MADE_CALLS, self.look_that_told_is_own)
+
+    def look_that_told_is_own(self, call, handed):
+        """Spoil each place of what is told, one at a time."""
+        own = copy.deepcopy(handed)
+        as_told = fresh(call(*own))
+        for at in range(len(places(as_told))):
+            told, beside, wanted = call(*own), call(*own), fresh(as_told)
+            spoil(places(told)[at])
+            spoil(places(wanted)[at])
+            self.assertEqual(told, wanted)
+            self.assertEqual(beside, as_told)
+            self.assertEqual(ordered(own), ordered(handed))
+            self.assertEqual(call(*own), as_told)
 
     def test_what_is_handed_in_is_not_kept(self):
-        for call, handed in DICT_CALLS + OTHER_CALLS:
-            with self.subTest(call=call.__name__, handed=handed):
-                own = copy.deepcopy(handed)
-                told = call(*own)
-                as_told = copy.deepcopy(told)
-                for thing in own:
-                    spoil(thing)
-                self.assertEqual(told, as_told)
-                self.assertEqual(call(*copy.deepcopy(handed)), as_told)
+        self.at_each(MADE_CALLS + OTHER_CALLS, self.look_that_handed_is_not_kept)
+
+    def look_that_handed_is_not_kept(self, call, handed):
+        """Spoil each place of what was handed in, one at a time, and behind that all of it."""
+        for at in range(len(places(handed))):
+            own = fresh(handed)
+            told = call(*own)
+            as_told = fresh(told)
+            spoil(places(own)[at])
+            self.assertEqual(told, as_told)
+            for place in places(own):
+                spoil(place)
+            self.assertEqual(told, as_told)
+            self.assertEqual(call(*copy.deepcopy(handed)), as_told)
 
 
 if __name__ == "__main__":

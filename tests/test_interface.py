@@ -19,6 +19,19 @@ FUNCTIONS = {
         "sum_times": ["one", "number"],
         "worth_at": ["one", "point"],
     },
+    "scopestore.rows": {
+        "row_of": ["one", "sort", "bound"],
+        "keeps": ["row", "point"],
+    },
+    "scopestore.equals": {
+        "solved_of": ["rows"],
+        "stepped": ["rows", "steps"],
+        "steps_of": ["rows"],
+    },
+    "scopestore.verdicts": {
+        "verdict_of": ["rows"],
+        "points_by_row": ["rows"],
+    },
 }
 CLASSES = {
     "scopestore.errors": (

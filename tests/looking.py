@@ -1,0 +1,164 @@
+"""What several tests look with: it reckons in Python's own fractions and uses nothing of the program."""
+
+import math
+from fractions import Fraction
+
+SORTS = ("is", "most", "least", "below", "above")
+LONG = 314159265358979323846264338327
+LONGER = 999999999999999999999999999999
+
+NO_FRACTIONS = (
+    None, True, False, 0, 1, "1", "(1, 1)", "ab", [1, 1], [1, 2], (), (1,), (1, 1, 1), {}, {1: 1, 2: 1},
+    (2, 4), (-2, 4), (6, 3), (0, 2), (0, -1), (0, 0), (1, 0), (-1, 0), (1, -1), (-1, -2), (LONG, LONG), (2 * LONG, 2),
+    (True, 1), (1, True), (True, True), (False, 1), (0, True), ("1", "1"), ("1", 1), (1, "1"), (None, 1), (1, None),
+    ((1, 1), (1, 1)), ([1], [1]), ((1, 2),), (1, (1,)),
+)
+
+
+class Draw:
+    """Numbers that look like chance and are the same in each run."""
+
+    def __init__(self, seed):
+        self.state = seed * 2 + 1
+
+    def number(self, least, greatest):
+        self.state = (self.state * 6364136223846793005 + 1442695040888963407) % 2**64
+        return least + (self.state >> 33) % (greatest - least + 1)
+
+    def one_of(self, things):
+        return things[self.number(0, len(things) - 1)]
+
+    def fraction(self, top, bottom):
+        return pair_of(Fraction(self.number(-top, top), self.number(1, bottom)))
+
+    def shuffled(self, things):
+        left, told = list(things), []
+        while left:
+            told.append(left.pop(self.number(0, len(left) - 1)))
+        return told
+
+
+def pair_of(number):
+    """Tell a number of Python's own as the program writes it."""
+    number = Fraction(number)
+    return (number.numerator, number.denominator)
+
+
+def fraction_fits(thing):
+    """Tell whether a thing is a fraction, its parts being no truths."""
+    if type(thing) is not tuple or [type(part) for part in thing] != [int, int]:
+        return False
+    return thing[1] >= 1 and math.gcd(*thing) == 1
+
+
+def name_fits(thing):
+    return type(thing) is str and 1 <= len(thing) <= 6 and all("a" <= letter <= "z" for letter in thing)
+
+
+def point_fits(thing):
+    return type(thing) is dict and all(name_fits(key) and fraction_fits(thing[key]) for key in thing)
+
+
+def sum_fits(thing):
+    return point_fits(thing) and all(number[0] != 0 for number in thing.values())
+
+
+def row_fits(thing):
+    if type(thing) is not tuple or len(thing) != 3:
+        return False
+    return sum_fits(thing[0]) and thing[1] in SORTS and fraction_fits(thing[2])
+
+
+def worth(one, point):
+    return sum((Fraction(*one[key]) * Fraction(*point.get(key, (0, 1))) for key in one), Fraction(0))
+
+
+def kept(row, point):
+    """Tell whether a point keeps a row."""
+    one, sort, bound = row
+    here, bound = worth(one, point), Fraction(*bound)
+    return {
+        "is": here == bound, "most": here <= bound, "least": here >= bound,
+        "below": here < bound, "above": here > bound,
+    }[sort]
+
+
+def keeps_all(rows, point):
+    return point_fits(point) and all(kept(row, point) for name, row in rows)
+
+
+def shares_fit(rows, shares):
+    """Tell whether a thing is shares of these rows, as point 10 tells."""
+    named = dict(rows)
+    if not sum_fits(shares) or not all(name in named for name in shares):
+        return False
+    signs = {"is": (-1, 1), "most": (1,), "below": (1,), "least": (-1,), "above": (-1,)}
+    return all((1 if shares[name][0] > 0 else -1) in signs[named[name][1]] for name in shares)
+
+
+def made_by(rows, shares):
+    """Tell the sum and the bound that shares make, and whether they are strict."""
+    named = dict(rows)
+    made, bound = {}, Fraction(0)
+    for name in shares:
+        share = Fraction(*shares[name])
+        bound += share * Fraction(*named[name][2])
+        for unknown, number in named[name][0].items():
+            made[unknown] = made.get(unknown, 0) + share * Fraction(*number)
+    strict = any(named[name][1] in ("below", "above") for name in shares)
+    return {unknown: made[unknown] for unknown in made if made[unknown] != 0}, bound, strict
+
+
+def shows_clash(rows, shares):
+    """Tell whether a thing is shares of these rows that show that no point keeps all of them."""
+    if not shares_fit(rows, shares):
+        return False
+    made, bound, strict = made_by(rows, shares)
+    return made == {} and (bound < 0 or (bound == 0 and strict))
+
+
+def turned(rows, kind=list):
+    """Tell the same rows, each sum's keys the other way round."""
+    return kind((name, ({key: one[key] for key in reversed(one)}, sort, bound)) for name, (one, sort, bound) in rows)
+
+
+def in_other_orders(rows, seed=1):
+    """Tell the same rows in some other orders, as tuples and as lists, and with their sums' keys in another order."""
+    draw = Draw(seed)
+    told = [tuple(rows), list(rows), list(reversed(rows)), turned(rows), turned(rows, tuple), turned(rows[::-1])]
+    for kind in (list, tuple, list):
+        told.append(kind(draw.shuffled(rows)))
+        told.append(turned(draw.shuffled(rows), kind))
+    return told
+
+
+def drawn_sum(draw, unknowns, top, bottom):
+    """Draw a sum in which each unknown stands more often than not."""
+    told = {}
+    for unknown in unknowns:
+        number = draw.fraction(top, bottom)
+        if draw.number(0, 2) and number[0] != 0:
+            told[unknown] = number
+    return told
+
+
+def drawn_rows(draw, many, unknowns, sorts=SORTS, top=4, bottom=2):
+    """Draw rows with unlike names, in no order."""
+    names = draw.shuffled(["a", "b", "x", "ab", "ba", "zz", "abcdef", "most", "is", "y"])[:many]
+    return [
+        (name, (drawn_sum(draw, unknowns, top, bottom), draw.one_of(sorts), draw.fraction(top, bottom)))
+        for name in names
+    ]
+
+
+def drawn_rows_at(draw, many, unknowns, point, top=999, bottom=99):
+    """Draw rows that the point keeps: some just so, some by a little, some by much."""
+    told = []
+    for name, (one, sort, bound) in drawn_rows(draw, many, unknowns, SORTS, top, bottom):
+        here = worth(one, point)
+        room = draw.one_of((Fraction(1, 97), Fraction(5), Fraction(900)))
+        if sort in ("most", "least"):
+            room = draw.one_of((Fraction(0), room))
+        sign = {"is": 0, "most": 1, "below": 1, "least": -1, "above": -1}[sort]
+        told.append((name, (one, sort, pair_of(here + sign * room))))
+    return told
