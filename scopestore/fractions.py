@@ -4,6 +4,7 @@ from scopestore.errors import NoFraction
 
 NOUGHT = (0, 1)
 ONE = (1, 1)
+HALF = (1, 2)
 MINUS_ONE = (-1, 1)
 
 

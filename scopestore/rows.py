@@ -7,15 +7,19 @@ from scopestore.sums import fits_sum, worth_at
 SORTS = ("is", "most", "least", "below", "above")
 
 
+def fits_row(thing):
+    """Tell whether anything is a row."""
+    if not isinstance(thing, tuple) or len(thing) != 3:
+        return False
+    one, sort, bound = thing
+    # SORTS is a tuple: what can't be a key, a list for one, may be looked for in it.
+    return fits_sum(one) and sort in SORTS and fits_fraction(bound)
+
+
 def row_of(one, sort, bound):
     """Tell the row of a sum, a sort and a bound, each of which may be anything."""
-    if not fits_sum(one):
-        raise NoRow("the sum is none")
-    # SORTS is a tuple: what can't be a key, a list for one, may be looked for in it.
-    if sort not in SORTS:
-        raise NoRow("the sort is none of the five")
-    if not fits_fraction(bound):
-        raise NoRow("the bound is no fraction")
+    if not fits_row((one, sort, bound)):
+        raise NoRow("these make no row")
     return (dict(one), sort, bound)
 
 

@@ -11,9 +11,9 @@ a bound that may.
 Rows are here a dict from names to rows, as rows_by_name tells it.
 """
 
-from scopestore.fractions import MINUS_ONE, NOUGHT, ONE, fraction_of, is_less, minus, over, plus, times
+from scopestore.fractions import MINUS_ONE, NOUGHT, ONE, fraction_of, is_less, minus, over, times
 from scopestore.rows import unknowns_of
-from scopestore.sums import sum_plus, sum_times, worth_at
+from scopestore.sums import moved, sum_plus, sum_times, worth_at
 
 UP = 1
 DOWN = -1
@@ -149,14 +149,20 @@ def tiny_room(row, plain, tiny):
     return half if is_less(half, ONE) else ONE
 
 
-def point_of(named, written):
-    """Tell a point that keeps all rows, by what is written by what where no slack breaks its bound."""
+def near_point(named, written):
+    """Tell where the unknowns of the rows stand, as two points: the plain parts and the tiny parts."""
     unknowns = unknowns_of(named)
     worths = {unknown: near_worth(named, written.get(("unknown", unknown), {})) for unknown in unknowns}
     plain = {unknown: worths[unknown][0] for unknown in unknowns}
     tiny = {unknown: worths[unknown][1] for unknown in unknowns}
+    return (plain, tiny)
+
+
+def point_of(named, written):
+    """Tell a point that keeps all rows, by what is written by what where no slack breaks its bound."""
+    plain, tiny = near_point(named, written)
     often = ONE
     for name in named:
         room = tiny_room(named[name], plain, tiny)
         often = room if is_less(room, often) else often
-    return {unknown: plus(plain[unknown], times(tiny[unknown], often)) for unknown in unknowns}
+    return moved(plain, tiny, often)

@@ -38,6 +38,14 @@ def worth_at(one, point):
     return worth
 
 
+def moved(point, way, often):
+    """Tell the point that is reached from a point along a way, gone so often."""
+    told = dict(point)
+    for unknown, number in way.items():
+        told[unknown] = plus(told.get(unknown, NOUGHT), times(number, often))
+    return told
+
+
 def fits_unknown(thing):
     """Tell whether anything is a text of one to six small letters, as unknowns are."""
     if not isinstance(thing, str) or not 1 <= len(thing) <= LONGEST:
@@ -45,8 +53,13 @@ def fits_unknown(thing):
     return all(letter in LETTERS for letter in thing)
 
 
-def fits_sum(thing):
-    """Tell whether anything is a sum."""
+def fits_point(thing):
+    """Tell whether anything is a point."""
     if not isinstance(thing, dict):
         return False
-    return all(fits_unknown(key) and fits_fraction(thing[key]) and thing[key] != NOUGHT for key in thing)
+    return all(fits_unknown(key) and fits_fraction(thing[key]) for key in thing)
+
+
+def fits_sum(thing):
+    """Tell whether anything is a sum."""
+    return fits_point(thing) and all(thing[unknown] != NOUGHT for unknown in thing)

@@ -162,3 +162,83 @@ def drawn_rows_at(draw, many, unknowns, point, top=999, bottom=99):
         sign = {"is": 0, "most": 1, "below": 1, "least": -1, "above": -1}[sort]
         told.append((name, (one, sort, pair_of(here + sign * room))))
     return told
+
+
+def sum_so_often(one, number):
+    """Tell a sum times a number of Python's own."""
+    return {key: Fraction(*one[key]) * number for key in one}
+
+
+def shares_make(rows, shares, one, sign, bound):
+    """Tell whether a thing is shares of these rows that make the sum times the sign, with that bound."""
+    return shares_fit(rows, shares) and made_by(rows, shares)[:2] == (sum_so_often(one, sign), bound)
+
+
+def with_edges(rows):
+    """Tell the rows, each below read as a most and each above as a least."""
+    edges = {"below": "most", "above": "least"}
+    return [(name, (one, edges.get(sort, sort), bound)) for name, (one, sort, bound) in rows]
+
+
+def way_fits(rows, way):
+    """Tell whether a thing is a way along which all rows are kept for ever."""
+    level = [(name, (one, sort, (0, 1))) for name, (one, sort, bound) in with_edges(rows)]
+    return keeps_all(level, way)
+
+
+def end_right(rows, one, sign, end):
+    """Tell whether a thing is the greatest (sign 1) or the least (sign -1) of a sum, as point 16 tells."""
+    if type(end) is not tuple or len(end) == 0:
+        return False
+    if end[0] == "without" and len(end) == 3:
+        return keeps_all(rows, end[1]) and way_fits(rows, end[2]) and sign * worth(one, end[2]) > 0
+    if end[0] not in ("at", "near") or len(end) != (4 if end[0] == "at" else 5) or not fraction_fits(end[1]):
+        return False
+    here = Fraction(*end[1])
+    if not shares_make(rows, end[-1], one, sign, sign * here) or not keeps_all(rows, end[-2]):
+        return False
+    if end[0] == "at":
+        return worth(one, end[2]) == here
+    return made_by(rows, end[-1])[2] and keeps_all(with_edges(rows), end[2]) and worth(one, end[2]) == here
+
+
+def span_right(rows, one, told):
+    """Tell whether a thing is a right answer of span_of."""
+    if type(told) is not tuple or len(told) != 2:
+        return False
+    return end_right(rows, one, -1, told[0]) and end_right(rows, one, 1, told[1])
+
+
+def fixed_right(rows, one, told):
+    """Tell whether a thing is a right answer of fixed_of, of rows that some point keeps."""
+    if type(told) is not tuple or len(told) == 0:
+        return False
+    if told[0] == "free" and len(told) == 3:
+        return keeps_all(rows, told[1]) and keeps_all(rows, told[2]) and worth(one, told[1]) != worth(one, told[2])
+    if told[0] != "fixed" or len(told) != 4 or not fraction_fits(told[1]):
+        return False
+    here = Fraction(*told[1])
+    return shares_make(rows, told[2], one, 1, here) and shares_make(rows, told[3], one, -1, -here)
+
+
+def ground_right(rows, row, sign, shares):
+    """Tell whether shares show that the row's sum times the sign is at most, or below, its bound times the sign."""
+    one, sort, bound = row
+    if not shares_fit(rows, shares):
+        return False
+    made, made_bound, strict = made_by(rows, shares)
+    bound = sign * Fraction(*bound)
+    short = made_bound < bound or (made_bound == bound and (strict or sort not in ("below", "above")))
+    return made == sum_so_often(one, sign) and short
+
+
+def follows_right(rows, row, told):
+    """Tell whether a thing is a right answer of follows_of, of rows that some point keeps."""
+    if type(told) is not tuple or len(told) != 2:
+        return False
+    if told[0] == "not":
+        return keeps_all(rows, told[1]) and not kept(row, told[1])
+    signs = {"is": (1, -1), "most": (1,), "below": (1,), "least": (-1,), "above": (-1,)}[row[1]]
+    if told[0] != "follows" or type(told[1]) is not list or len(told[1]) != len(signs):
+        return False
+    return all(ground_right(rows, row, sign, shares) for sign, shares in zip(signs, told[1]))

@@ -5,8 +5,10 @@ import unittest
 
 from scopestore.equals import solved_of, stepped, steps_of
 from scopestore.errors import StoreError
+from scopestore.follows import follows_of
 from scopestore.fractions import fraction_of, is_less, minus, over, plus, times
 from scopestore.rows import keeps, row_of
+from scopestore.spans import fixed_of, span_of
 from scopestore.sums import sum_of, sum_plus, sum_times, worth_at
 from scopestore.verdicts import points_by_row, verdict_of
 
@@ -26,6 +28,20 @@ ROW_CALLS = tuple(
     (call, (kind(rows),))
     for call in (solved_of, steps_of, verdict_of, points_by_row)
     for rows in ([], KEPT, CLASH, CLASH[:2], KEPT[4:])
+    for kind in (list, tuple)
+)
+STRICT = [("b", (SUM, "below", (2, 1))), ("a", (SUM, "above", (1, 1))), ("c", ({}, "is", (0, 1)))]
+ASKED_CALLS = tuple(
+    (call, (kind(rows), one))
+    for call in (span_of, fixed_of)
+    for rows in ([], KEPT, STRICT, KEPT[4:])
+    for one in ({}, SUM, {"y": (1, 1), "x": (1, 1)}, {"new": (1, 1)})
+    for kind in (list, tuple)
+) + tuple(
+    (follows_of, (kind(rows), (one, sort, bound)))
+    for rows in ([], KEPT, STRICT)
+    for one in ({}, SUM, {"y": (1, 1)}, {"new": (1, 1)})
+    for sort, bound in (("is", (1, 1)), ("most", (2, 1)), ("above", (1, 1)), ("least", (0, 1)), ("is", (0, 1)))
     for kind in (list, tuple)
 )
 
@@ -51,7 +67,7 @@ MADE_CALLS = (
     (stepped, (KEPT, [])),
     (stepped, (KEPT, [("add", "c", "d", (1, 1))])),
     (stepped, ([], ())),
-) + ROW_CALLS
+) + ROW_CALLS + ASKED_CALLS
 OTHER_CALLS = (
     (fraction_of, (6, -8)),
     (plus, ((1, 2), (1, 3))),
@@ -72,6 +88,9 @@ REFUSED_CALLS = (
     (stepped, (KEPT, STEPS + [["times", "d", (1, 1)]])),
     (stepped, (KEPT, STEPS + [("times", ["d"], [1, 1])])),
     (stepped, (KEPT, STEPS + [("times", "b", (1, 1))])),
+    (span_of, (CLASH, SUM)),
+    (fixed_of, (tuple(CLASH), {})),
+    (follows_of, (CLASH, (SUM, "is", (1, 1)))),
 )
 
 

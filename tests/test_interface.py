@@ -32,12 +32,42 @@ FUNCTIONS = {
         "verdict_of": ["rows"],
         "points_by_row": ["rows"],
     },
+    "scopestore.spans": {
+        "span_of": ["rows", "one"],
+        "fixed_of": ["rows", "one"],
+    },
+    "scopestore.follows": {
+        "follows_of": ["rows", "row"],
+    },
 }
 CLASSES = {
     "scopestore.errors": (
         "StoreError", "NoFraction", "NoRow", "NoName", "Stands", "Full", "NoLevel", "NoMark", "NothingDone",
         "NoPoint", "NoStep", "NoNumber", "NoNames", "NoText", "NoLine", "NoWord",
     ),
+    "scopestore.store": ("Store",),
+}
+METHODS = {
+    ("scopestore.store", "Store"): {
+        "tell": ["name", "row"],
+        "take": ["name"],
+        "enter": [],
+        "leave": [],
+        "mark": ["word"],
+        "back": ["word"],
+        "undo": [],
+        "again": [],
+        "names": [],
+        "row": ["name"],
+        "rows": [],
+        "level": [],
+        "marks": [],
+        "verdict": [],
+        "span": ["one"],
+        "fixed": ["one"],
+        "follows": ["row"],
+        "copy": [],
+    },
 }
 
 
@@ -67,6 +97,16 @@ class Interface(unittest.TestCase):
                 with self.subTest(module=module_name, name=name):
                     self.assertTrue(inspect.isclass(getattr(module, name)))
                     self.assertEqual(getattr(module, name).__module__, module_name)
+
+    def test_methods(self):
+        for (module_name, class_name), methods in METHODS.items():
+            kind = getattr(importlib.import_module(module_name), class_name)
+            kind()
+            for name, arguments in methods.items():
+                with self.subTest(kind=class_name, name=name):
+                    self.assertIn(name, vars(kind))
+                    self.assertTrue(inspect.isfunction(vars(kind)[name]))
+                    self.assertEqual(list(inspect.signature(vars(kind)[name]).parameters)[1:], arguments)
 
 
 if __name__ == "__main__":

@@ -145,6 +145,34 @@ class Language(unittest.TestCase):
             if isinstance(node, ast.Call) and isinstance(node.func, ast.Attribute):
                 self.assertIn(node.func.attr, METHODS | OWN_METHODS, node.lineno)
 
+    def test_no_name_is_a_method_and_an_attribute(self):
+        classes = [node for tree in TREES.values() for node in tree.body if isinstance(node, ast.ClassDef)]
+        methods = {node.name for kind in classes for node in kind.body if isinstance(node, ast.FunctionDef)}
+        nodes = [node for tree in TREES.values() for node in ast.walk(tree) if isinstance(node, ast.Attribute)]
+        assigned = {node.attr for node in nodes if isinstance(node.ctx, ast.Store)}
+        self.assertFalse(methods & assigned)
+        called = {node.attr for node in nodes} - assigned
+        self.assertLessEqual(called, METHODS | methods)
+
+    def test_is_stands_with_none_true_and_false_alone(self):
+        self.in_each_file(self.look_at_is)
+
+    def look_at_is(self, text, tree):
+        for node in ast.walk(tree):
+            if isinstance(node, ast.Compare):
+                for sign, other in zip(node.ops, node.comparators):
+                    if isinstance(sign, (ast.Is, ast.IsNot)):
+                        self.assertIn(getattr(other, "value", 0), (None, True, False), node.lineno)
+
+    def test_comprehensions_stand_in_functions(self):
+        self.in_each_file(self.look_at_module_level_values)
+
+    def look_at_module_level_values(self, text, tree):
+        for node in tree.body:
+            if isinstance(node, ast.Assign):
+                for part in ast.walk(node.value):
+                    self.assertNotIsInstance(part, (ast.ListComp, ast.DictComp, ast.SetComp, ast.GeneratorExp, ast.Call))
+
 
 if __name__ == "__main__":
     unittest.main()
