@@ -242,3 +242,69 @@ def follows_right(rows, row, told):
     if told[0] != "follows" or type(told[1]) is not list or len(told[1]) != len(signs):
         return False
     return all(ground_right(rows, row, sign, shares) for sign, shares in zip(signs, told[1]))
+
+
+def parts(one, bound):
+    """Tell a row's numbers, its bound behind None, in Python's own fractions."""
+    told = {key: Fraction(*one[key]) for key in one}
+    return {**told, None: Fraction(*bound)}
+
+
+def added(row, other, number):
+    told = {key: row.get(key, 0) + number * other.get(key, 0) for key in {**row, **other}}
+    return {key: told[key] for key in told if told[key] != 0 or key is None}
+
+
+def expected_lines(rows):
+    """Tell the lines by a way that is not the program's: row by row, each put into those before it; None if none."""
+    lines = {}
+    for _, (one, sort, bound) in rows:
+        row = parts(one, bound) if sort == "is" else {None: Fraction(0)}
+        for lead in sorted(lines):
+            row = added(row, lines[lead], -row.get(lead, 0))
+        unknowns = sorted(key for key in row if key is not None)
+        if not unknowns:
+            if row[None] != 0:
+                return None
+            continue
+        lead = unknowns[0]
+        row = added({None: Fraction(0)}, row, 1 / row[lead])
+        lines = {other: added(lines[other], row, -lines[other].get(lead, 0)) for other in lines}
+        lines[lead] = row
+    return [
+        (lead, {key: pair_of(-lines[lead][key]) for key in lines[lead] if key not in (lead, None)},
+         pair_of(lines[lead][None]))
+        for lead in sorted(lines)
+    ]
+
+
+def solved_right(rows, told):
+    """Tell whether a thing is a right answer of solved_of."""
+    if type(told) is not tuple or len(told) != 2:
+        return False
+    equals = [(name, row) for name, row in rows if row[1] == "is"]
+    if told[0] == "none":
+        return shares_fit(equals, told[1]) and made_by(equals, told[1])[0] == {} and made_by(equals, told[1])[1] < 0
+    if told[0] != "solved" or type(told[1]) is not list:
+        return False
+    for line in told[1]:
+        if type(line) is not tuple or len(line) != 3 or not name_fits(line[0]):
+            return False
+        if not sum_fits(line[1]) or not fraction_fits(line[2]):
+            return False
+    return told[1] == expected_lines(rows)
+
+
+def verdict_right(rows, told):
+    """Tell whether a thing is a right answer of verdict_of."""
+    if type(told) is not tuple or len(told) not in (2, 3):
+        return False
+    if told[0] == "point" and len(told) == 2:
+        return keeps_all(rows, told[1])
+    if told[0] != "clash" or len(told) != 3 or not shows_clash(rows, told[1]):
+        return False
+    shares, points = told[1:]
+    if type(points) is not dict or set(points) != set(shares):
+        return False
+    others = {name: [pair for pair in rows if pair[0] in shares and pair[0] != name] for name in shares}
+    return all(keeps_all(others[name], points[name]) for name in shares)

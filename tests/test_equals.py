@@ -5,8 +5,8 @@ import unittest
 from fractions import Fraction
 
 from looking import (
-    LONGER, NO_FRACTIONS, Draw, drawn_rows, fraction_fits, in_other_orders, made_by, name_fits, pair_of, row_fits,
-    shares_fit, sum_fits,
+    LONGER, NO_FRACTIONS, Draw, added, drawn_rows, expected_lines, fraction_fits, in_other_orders, made_by, name_fits,
+    pair_of, parts, row_fits, shares_fit, sum_fits,
 )
 from scopestore.equals import solved_of, stepped, steps_of
 from scopestore.errors import NoStep
@@ -23,40 +23,6 @@ OTHERS = [
 def equals(*rows):
     """Tell rows "is", named by their places, of sums and bounds."""
     return [("abcdefgh"[at], (one, "is", bound)) for at, (one, bound) in enumerate(rows)]
-
-
-def parts(one, bound):
-    """Tell a row's numbers, its bound behind None, in Python's own fractions."""
-    told = {key: Fraction(*one[key]) for key in one}
-    return {**told, None: Fraction(*bound)}
-
-
-def added(row, other, number):
-    told = {key: row.get(key, 0) + number * other.get(key, 0) for key in {**row, **other}}
-    return {key: told[key] for key in told if told[key] != 0 or key is None}
-
-
-def expected_lines(rows):
-    """Tell the lines by a way that is not the program's: row by row, each put into those before it; None if none."""
-    lines = {}
-    for _, (one, sort, bound) in rows:
-        row = parts(one, bound) if sort == "is" else {None: Fraction(0)}
-        for lead in sorted(lines):
-            row = added(row, lines[lead], -row.get(lead, 0))
-        unknowns = sorted(key for key in row if key is not None)
-        if not unknowns:
-            if row[None] != 0:
-                return None
-            continue
-        lead = unknowns[0]
-        row = added({None: Fraction(0)}, row, 1 / row[lead])
-        lines = {other: added(lines[other], row, -lines[other].get(lead, 0)) for other in lines}
-        lines[lead] = row
-    return [
-        (lead, {key: pair_of(-lines[lead][key]) for key in lines[lead] if key not in (lead, None)},
-         pair_of(lines[lead][None]))
-        for lead in sorted(lines)
-    ]
 
 
 class SolvedTest(unittest.TestCase):

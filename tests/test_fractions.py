@@ -91,7 +91,7 @@ class Reckoning(FractionTest):
                     self.assert_fraction(over(a, b), Fraction(*a) / Fraction(*b))
 
     def test_over_nought_is_refused(self):
-        for a in FRACTIONS:
+        for a in FRACTIONS + ((1, 2**300), (-(3**200), 2**300)):
             with self.assertRaises(NoFraction):
                 over(a, (0, 1))
 
@@ -131,6 +131,20 @@ class Reckoning(FractionTest):
             told = plus(times(told, told), (number, 11))
             worth = worth * worth + Fraction(number, 11)
             self.assert_fraction(told, worth)
+
+    def test_long_ones_that_have_divisors_in_common(self):
+        long = [(0, 1), (1, 1), (-1, 1), (5, 6), (-7, 30), (LONG, EVEN), (-LONGER, 6**80)]
+        for bottom in (6**100, 10**90, 15**70, 2**300, 6**100 * 7, LONG**5):
+            long += [(1, bottom), (-1, bottom), (bottom, 77), (bottom - 1, bottom), (35 - bottom, bottom)]
+        long = [(Fraction(*pair).numerator, Fraction(*pair).denominator) for pair in long]
+        for a in long:
+            for b in long:
+                self.assert_fraction(plus(a, b), Fraction(*a) + Fraction(*b))
+                self.assert_fraction(minus(a, b), Fraction(*a) - Fraction(*b))
+                self.assert_fraction(times(a, b), Fraction(*a) * Fraction(*b))
+                self.assertIs(is_less(a, b), Fraction(*a) < Fraction(*b))
+                if b != (0, 1):
+                    self.assert_fraction(over(a, b), Fraction(*a) / Fraction(*b))
 
 
 if __name__ == "__main__":

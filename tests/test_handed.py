@@ -7,9 +7,17 @@ from scopestore.equals import solved_of, stepped, steps_of
 from scopestore.errors import StoreError
 from scopestore.follows import follows_of
 from scopestore.fractions import fraction_of, is_less, minus, over, plus, times
+from scopestore.lookers import (
+    fixed_holds, follows_holds, is_fraction, is_point, is_row, is_shares, is_sum, solved_holds, span_holds,
+    verdict_holds,
+)
+from scopestore.otherwise import plain_row, row_put, row_renamed, row_times, same_row
 from scopestore.rows import keeps, row_of
 from scopestore.spans import fixed_of, span_of
 from scopestore.sums import sum_of, sum_plus, sum_times, worth_at
+from scopestore.texts import (
+    fraction_text, point_text, read_fraction, read_row, read_sum, row_text, shares_text, sum_text,
+)
 from scopestore.verdicts import points_by_row, verdict_of
 
 SUM = {"x": (3, 4), "y": (-2, 3)}
@@ -44,6 +52,57 @@ ASKED_CALLS = tuple(
     for sort, bound in (("is", (1, 1)), ("most", (2, 1)), ("above", (1, 1)), ("least", (0, 1)), ("is", (0, 1)))
     for kind in (list, tuple)
 )
+ROWS_OTHERWISE = ((SUM, "most", (1, 1)), ({}, "is", (0, 1)), ({"y": (-1, 1), "x": (2, 1)}, "above", (0, 1)))
+OTHERWISE_CALLS = tuple(
+    call
+    for row in ROWS_OTHERWISE
+    for call in (
+        (row_times, (row, (1, 1))),
+        (row_times, (row, (-3, 7))),
+        (row_put, (row, "x", {"x": (1, 1)}, (0, 1))),
+        (row_put, (row, "x", {"z": (1, 1), "y": (2, 1)}, (5, 1))),
+        (row_put, (row, "q", SUM, (5, 1))),
+        (row_put, (row, "x", {}, (0, 1))),
+        (row_renamed, (row, {})),
+        (row_renamed, (row, {"x": "y", "y": "x", "q": "x"})),
+        (plain_row, (row,)),
+    )
+) + (
+    (plain_row, (({"x": (1, 1)}, "is", (2, 1)),)),
+    (read_sum, ("0",)),
+    (read_sum, ("-3/4 x + y",)),
+    (read_row, ("0 is 0",)),
+    (read_row, ("x + y most 1/2",)),
+)
+LOOKED = (
+    (1, 1), [1, 1], None, SUM, [SUM], {"x": [1, 1]}, (SUM, "is", (1, 1)), {"a": (1, 1), "f": (-1, 1)},
+    ("point", {"x": (4, 3)}), ("clash", {"a": (1, 1)}, {"a": SUM}), ("solved", [("x", SUM, (1, 1))]),
+    ("none", {"a": (1, 1), "d": (-1, 1)}), ("free", {"x": (4, 3)}, {"x": (5, 3)}), ("fixed", (1, 1), SUM, SUM),
+    ("fixed", (1, 1), {"a": (1, 1)}, {"a": (-1, 1)}), ("not", {"x": (4, 3)}),
+    ("follows", [{"a": (1, 1)}, {"d": (-1, 1)}]),
+    (("at", (1, 1), {"x": (4, 3)}, {"a": (-1, 1)}), ("at", (1, 1), {"x": (4, 3)}, {"d": (1, 1)})),
+)
+LOOKER_CALLS = tuple(
+    call
+    for thing in LOOKED
+    for call in (
+        (is_fraction, (thing,)), (is_sum, (thing,)), (is_point, (thing,)), (is_row, (thing,)),
+        (is_shares, (KEPT, thing)), (solved_holds, (KEPT, thing)), (solved_holds, (CLASH, thing)),
+        (verdict_holds, (KEPT, thing)), (verdict_holds, (tuple(CLASH), thing)), (span_holds, (KEPT, SUM, thing)),
+        (fixed_holds, (KEPT, SUM, thing)), (fixed_holds, (CLASH, SUM, thing)),
+        (follows_holds, (KEPT, (SUM, "is", (1, 1)), thing)),
+    )
+)
+TEXT_CALLS = (
+    (fraction_text, ((-3, 4),)),
+    (sum_text, (SUM,)),
+    (row_text, ((SUM, "is", (1, 2)),)),
+    (point_text, ({"y": (0, 1), "x": (1, 2)},)),
+    (shares_text, ({"b": (1, 1), "a": (-1, 2)},)),
+    (read_fraction, ("-3/4",)),
+    (same_row, ((SUM, "is", (1, 2)), (SUM, "most", (1, 2)))),
+    (same_row, ((SUM, "is", (1, 2)), ({}, "most", (1, 2)))),
+)
 
 # Each call, with what is handed in: a told dict is often alike a handed one here.
 MADE_CALLS = (
@@ -67,7 +126,7 @@ MADE_CALLS = (
     (stepped, (KEPT, [])),
     (stepped, (KEPT, [("add", "c", "d", (1, 1))])),
     (stepped, ([], ())),
-) + ROW_CALLS + ASKED_CALLS
+) + ROW_CALLS + ASKED_CALLS + OTHERWISE_CALLS
 OTHER_CALLS = (
     (fraction_of, (6, -8)),
     (plus, ((1, 2), (1, 3))),
@@ -80,7 +139,7 @@ OTHER_CALLS = (
     (worth_at, ({}, {"x": (1, 3)})),
     (keeps, ((SUM, "most", (1, 1)), {"x": (1, 3), "u": (0, 1)})),
     (keeps, (({}, "above", (0, 1)), {})),
-)
+) + LOOKER_CALLS + TEXT_CALLS
 REFUSED_CALLS = (
     (row_of, ({"x": (1, 1), "y": [1, 1]}, ["is"], [1, 1])),
     (row_of, ({"x": (1, 1)}, {"is": 1}, (0, 1))),
@@ -91,6 +150,11 @@ REFUSED_CALLS = (
     (span_of, (CLASH, SUM)),
     (fixed_of, (tuple(CLASH), {})),
     (follows_of, (CLASH, (SUM, "is", (1, 1)))),
+    (row_times, ((SUM, "is", (1, 1)), (0, 1))),
+    (row_renamed, ((SUM, "is", (1, 1)), {"x": "y"})),
+    (read_fraction, ("2/4",)),
+    (read_sum, ("y + x",)),
+    (read_row, ("x is",)),
 )
 
 

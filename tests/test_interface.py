@@ -39,6 +39,35 @@ FUNCTIONS = {
     "scopestore.follows": {
         "follows_of": ["rows", "row"],
     },
+    "scopestore.lookers": {
+        "is_fraction": ["thing"],
+        "is_sum": ["thing"],
+        "is_point": ["thing"],
+        "is_row": ["thing"],
+        "is_shares": ["rows", "thing"],
+        "solved_holds": ["rows", "thing"],
+        "verdict_holds": ["rows", "thing"],
+        "span_holds": ["rows", "one", "thing"],
+        "fixed_holds": ["rows", "one", "thing"],
+        "follows_holds": ["rows", "row", "thing"],
+    },
+    "scopestore.otherwise": {
+        "row_times": ["row", "number"],
+        "row_put": ["row", "unknown", "one", "number"],
+        "row_renamed": ["row", "names"],
+        "plain_row": ["row"],
+        "same_row": ["one", "other"],
+    },
+    "scopestore.texts": {
+        "fraction_text": ["number"],
+        "sum_text": ["one"],
+        "row_text": ["row"],
+        "point_text": ["point"],
+        "shares_text": ["shares"],
+        "read_fraction": ["text"],
+        "read_sum": ["text"],
+        "read_row": ["text"],
+    },
 }
 CLASSES = {
     "scopestore.errors": (
@@ -46,6 +75,7 @@ CLASSES = {
         "NoPoint", "NoStep", "NoNumber", "NoNames", "NoText", "NoLine", "NoWord",
     ),
     "scopestore.store": ("Store",),
+    "scopestore.desk": ("Desk",),
 }
 METHODS = {
     ("scopestore.store", "Store"): {
@@ -67,6 +97,9 @@ METHODS = {
         "fixed": ["one"],
         "follows": ["row"],
         "copy": [],
+    },
+    ("scopestore.desk", "Desk"): {
+        "told": ["line"],
     },
 }
 

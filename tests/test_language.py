@@ -171,7 +171,8 @@ class Language(unittest.TestCase):
         for node in tree.body:
             if isinstance(node, ast.Assign):
                 for part in ast.walk(node.value):
-                    self.assertNotIsInstance(part, (ast.ListComp, ast.DictComp, ast.SetComp, ast.GeneratorExp, ast.Call))
+                    self.assertNotIsInstance(part, (ast.ListComp, ast.DictComp, ast.SetComp, ast.GeneratorExp))
+                    self.assertNotIsInstance(part, (ast.Call, ast.Lambda))
 
 
 if __name__ == "__main__":

@@ -151,7 +151,7 @@ class VerdictOf(VerdictTest):
                 apart = (sort in lower and other in upper and top < 0) or (sort in upper and other in lower and top > 0)
                 held = (sort in upper and other in lower) or (sort in lower and other in upper)
                 tight = top == 0 and held and ("below" in (sort, other) or "above" in (sort, other))
-                for one in (X, BOTH, {"x": (-2, 3), "y": (999, 99)}):
+                for one in (X, BOTH, {"x": (-2, 3), "y": (999, 98)}):
                     rows = named((one, sort, (5, 1)), (one, other, (5 + top, 1)))
                     with self.subTest(rows=rows):
                         self.assertEqual(self.assert_verdict(rows), "clash" if apart or tight else "point")
