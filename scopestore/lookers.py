@@ -4,8 +4,8 @@ from scopestore.equals import solved_of
 from scopestore.follows import sides_of
 from scopestore.fractions import MINUS_ONE, NOUGHT, ONE, fits_fraction, is_less, plus, times
 from scopestore.rows import fits_row, keeps, rows_by_name
+from scopestore.slacks import settled
 from scopestore.sums import fits_point, fits_sum, fits_unknown, sum_plus, sum_times, worth_at
-from scopestore.verdicts import verdict_of
 
 STRICT_SORTS = ("below", "above")
 EDGE_SORTS = {"is": "is", "most": "most", "below": "most", "least": "least", "above": "least"}
@@ -179,9 +179,10 @@ def span_holds(rows, one, thing):
     return end_holds(named, one, MINUS_ONE, thing[0]) and end_holds(named, one, ONE, thing[1])
 
 
-def has_point(rows):
+def has_point(named):
     """Tell whether some point keeps all rows."""
-    return verdict_of(rows)[0] == "point"
+    written, stuck = settled(named)
+    return stuck is None
 
 
 def pins(named, one, worth, above, under):
@@ -199,7 +200,7 @@ def fixed_holds(rows, one, thing):
             return False
         return worth_at(one, thing[1]) != worth_at(one, thing[2])
     # Shares pin a sum also where no point keeps the rows, and then nothing is told fixed.
-    return is_told(thing, "fixed", 4) and pins(named, one, thing[1], thing[2], thing[3]) and has_point(rows)
+    return is_told(thing, "fixed", 4) and pins(named, one, thing[1], thing[2], thing[3]) and has_point(named)
 
 
 def grounds_side(named, side, thing):
@@ -226,4 +227,4 @@ def follows_holds(rows, row, thing):
     named = rows_by_name(rows)
     if is_told(thing, "not", 2):
         return keeps_all(named, thing[1]) and not keeps(row, thing[1])
-    return is_told(thing, "follows", 2) and grounds_hold(named, row, thing[1]) and has_point(rows)
+    return is_told(thing, "follows", 2) and grounds_hold(named, row, thing[1]) and has_point(named)
